@@ -19,7 +19,7 @@ func lay(x *bigTable) weak.Pointer[big] {
 	return weak.Make(v)
 }
 
-// No more is kept than the promises need: a value that no call can tell any more is let go; one that Back may lead to is held.
+// A value that is gone is let go when no mark is left that it was changed behind; one that Back may lead to is held. (While a mark stands, each change behind it is kept.)
 func TestNoMoreIsKept(t *testing.T) {
 	rows := map[string]struct {
 		ahead, behind func(x *bigTable)
