@@ -94,15 +94,14 @@ func (r *reader) measure(h header, open bool) {
 	}
 }
 
-// body reads all behind the header. The bytes have been measured: those that it asks for are there.
+// body reads all behind the header. The bytes have been measured: those that it asks for are there. Each part is read in a step of its own: within one expression Go leaves open whether r.at is read ahead of a call that moves it.
 func (r *reader) body(h header) api.Container {
-	return api.Container{
-		Types: r.types(len(h.codes)),
-		Codes: r.pieces(h.codes),
-		Subs:  r.pieces(h.subs),
-		Data:  bytes.Clone(r.bytes[r.at:]),
-		Size:  int(h.data),
-	}
+	c := api.Container{Size: int(h.data)}
+	c.Types = r.types(len(h.codes))
+	c.Codes = r.pieces(h.codes)
+	c.Subs = r.pieces(h.subs)
+	c.Data = bytes.Clone(r.bytes[r.at:])
+	return c
 }
 
 // types reads the types of so many sections.
