@@ -3,7 +3,9 @@ package lean_test
 import (
 	"testing"
 
+	"vouch/api"
 	"vouch/lean"
+	"vouch/op"
 )
 
 // becomes holds that a section of a container with no other one is turned into this, with the height that it has.
@@ -94,6 +96,33 @@ func TestNoPairs(t *testing.T) {
 	stays(t, high(of(typed(0, 1, 0, 0), "36 e3 0001 00", "50 e4"))) // what it takes
 	stays(t, high(of(typed(0, 1, 0, 0), "5f e3 0001 00", "50 e4")))
 	stays(t, high(with(of(typed(0), "36 36 36 36 ec 00 50 00"), stuck())))
+}
+
+// needsWords: does an instruction need nothing but words (no data, no section, no jump), and go on?
+func needsWords(row api.Op) bool {
+	return !row.Ends && row.Code != 0xd1 && row.Code>>4 != 0xe
+}
+
+// 20.1: of all instructions that need nothing but words PUSHes and DUPs alone are idle with a POP behind them, and NOP, which is idle anyhow.
+func TestNoOtherPairs(t *testing.T) {
+	others := 0
+	for row := range op.All() {
+		if !needsWords(row) || row.Code == 0x5b {
+			continue
+		}
+		b := join(times("36", row.In+1), []byte{byte(row.Code)}, make([]byte, row.Imm))
+		idle := 0x5f <= row.Code && row.Code <= 0x8f
+		if c := fit(b, raw("50 00")); lean.Is(c, api.Runtime) == idle {
+			t.Errorf("%s with a POP behind it: idle is not %v", row.Name, idle)
+		}
+		if !idle {
+			stays(t, fit(b, raw("50 00")))
+			others++
+		}
+	}
+	if others < 60 {
+		t.Errorf("%d others", others)
+	}
 }
 
 // 20.1: pairs within pairs, and with what is idle between.
